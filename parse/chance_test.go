@@ -172,14 +172,15 @@ func (m *maker) arm(e *api.Expr, arm, deep int, bar, semi bool) {
 }
 
 func (m *maker) test(deep int) api.Expr {
+	at := len(m.words)
 	left := m.sum(deep)
 	switch m.r.Intn(6) {
 	case 0:
 		m.say("<")
-		return api.Expr{Kind: api.Less, At: left.At, Kids: []api.Expr{left, m.sum(deep)}}
+		return api.Expr{Kind: api.Less, At: at, Kids: []api.Expr{left, m.sum(deep)}}
 	case 1:
 		m.say("=")
-		return api.Expr{Kind: api.Same, At: left.At, Kids: []api.Expr{left, m.sum(deep)}}
+		return api.Expr{Kind: api.Same, At: at, Kids: []api.Expr{left, m.sum(deep)}}
 	}
 	return left
 }
@@ -192,19 +193,21 @@ func (m *maker) sum(deep int) api.Expr {
 
 // chain of parts with signs between them, that stands to the left.
 func (m *maker) chain(deep int, signs string, part func() api.Expr) api.Expr {
+	at := len(m.words)
 	left := part()
 	for m.r.Intn(5) == 0 && !m.small(deep) {
 		sign := strings.Fields(signs)[m.r.Intn(2)]
 		m.say(sign)
-		left = api.Expr{Kind: api.Op, Text: sign, At: left.At, Kids: []api.Expr{left, part()}}
+		left = api.Expr{Kind: api.Op, Text: sign, At: at, Kids: []api.Expr{left, part()}}
 	}
 	return left
 }
 
 func (m *maker) app(deep int) api.Expr {
+	at := len(m.words)
 	left := m.unit(deep)
 	for m.r.Intn(5) == 0 && !m.small(deep) {
-		left = api.Expr{Kind: api.App, At: left.At, Kids: []api.Expr{left, m.unit(deep)}}
+		left = api.Expr{Kind: api.App, At: at, Kids: []api.Expr{left, m.unit(deep)}}
 	}
 	return left
 }

@@ -28,12 +28,12 @@ func (r *reader) expr() api.Expr {
 	if t.Kind == api.Word && r.seesSecond(":=") {
 		return r.store()
 	}
-	first := r.unit()
+	at, first := r.begin()
 	// A place in parentheses may not be put to.
 	if t.Kind == api.Word && first.Kind == api.At && r.may("<-") {
-		return api.Expr{Kind: api.Put, Text: first.Text, At: t.At, Kids: []api.Expr{first.Kids[0], r.expr()}}
+		return api.Expr{Kind: api.Put, Text: first.Text, At: at, Kids: []api.Expr{first.Kids[0], r.expr()}}
 	}
-	return r.test(first)
+	return r.test(at, first)
 }
 
 func (r *reader) let() api.Expr {
@@ -117,47 +117,52 @@ func (r *reader) arm(m *api.Expr) {
 	}
 }
 
-// test goes on behind its first unit; so do sum, prod and app.
-func (r *reader) test(first api.Expr) api.Expr {
-	left := r.sum(first)
+// begin reads a first unit, and tells its first token's place, which is that of all that it is the left part of: where it is in parentheses, its own place is another.
+func (r *reader) begin() (int, api.Expr) {
+	at := r.peek().At
+	return at, r.unit()
+}
+
+// test goes on behind its first unit, which begins at at; so do sum, prod and app.
+func (r *reader) test(at int, first api.Expr) api.Expr {
+	left := r.sum(at, first)
 	switch {
 	case r.may("<"):
-		return join(api.Less, "", left, r.sum(r.unit()))
+		return join(api.Less, "", at, left, r.sum(r.begin()))
 	case r.may("="):
-		return join(api.Same, "", left, r.sum(r.unit()))
+		return join(api.Same, "", at, left, r.sum(r.begin()))
 	}
 	return left
 }
 
-func (r *reader) sum(first api.Expr) api.Expr {
-	left := r.prod(first)
+func (r *reader) sum(at int, first api.Expr) api.Expr {
+	left := r.prod(at, first)
 	for r.sees("+") || r.sees("-") {
 		sign := r.take().Text
-		left = join(api.Op, sign, left, r.prod(r.unit()))
+		left = join(api.Op, sign, at, left, r.prod(r.begin()))
 	}
 	return left
 }
 
-func (r *reader) prod(first api.Expr) api.Expr {
-	left := r.app(first)
+func (r *reader) prod(at int, first api.Expr) api.Expr {
+	left := r.app(at, first)
 	for r.sees("*") || r.sees("/") {
 		sign := r.take().Text
-		left = join(api.Op, sign, left, r.app(r.unit()))
+		left = join(api.Op, sign, at, left, r.app(r.begin()))
 	}
 	return left
 }
 
-func (r *reader) app(first api.Expr) api.Expr {
+func (r *reader) app(at int, first api.Expr) api.Expr {
 	left := first
 	for beginsUnit(r.peek()) {
-		left = join(api.App, "", left, r.unit())
+		left = join(api.App, "", at, left, r.unit())
 	}
 	return left
 }
 
-// join stands at its left part, whatever parentheses are around that.
-func join(kind int, sign string, left, right api.Expr) api.Expr {
-	return api.Expr{Kind: kind, Text: sign, At: left.At, Kids: []api.Expr{left, right}}
+func join(kind int, sign string, at int, left, right api.Expr) api.Expr {
+	return api.Expr{Kind: kind, Text: sign, At: at, Kids: []api.Expr{left, right}}
 }
 
 func beginsUnit(t api.Token) bool {

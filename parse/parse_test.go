@@ -197,17 +197,17 @@ func TestToTheLeft(t *testing.T) {
 	}
 }
 
-// Parentheses make no expression: what joins two stands at its left part, all else at its first token.
+// Parentheses make no expression; but what begins with one stands there, if it is more than what is in them.
 func TestPlacesOfParentheses(t *testing.T) {
 	for text, want := range map[string]string{
 		"(1)":            "(Num@1 #1)",
 		"(((x)))":        "(Name@3 x)",
-		"(1) + 2":        "(Op@1 + (Num@1 #1) (Num@6 #2))",
-		"((1)) * (2)":    "(Op@2 * (Num@2 #1) (Num@9 #2))",
-		"(1 + 2) * 3":    "(Op@1 * (Op@1 + (Num@1 #1) (Num@5 #2)) (Num@10 #3))",
-		"(f) x":          "(App@1 (Name@1 f) (Name@4 x))",
-		"(1) < 2":        "(Less@1 (Num@1 #1) (Num@6 #2))",
-		"((1)) = 2":      "(Same@2 (Num@2 #1) (Num@8 #2))",
+		"(1) + 2":        "(Op@0 + (Num@1 #1) (Num@6 #2))",
+		"((1)) * (2)":    "(Op@0 * (Num@2 #1) (Num@9 #2))",
+		"(1 + 2) * 3":    "(Op@0 * (Op@1 + (Num@1 #1) (Num@5 #2)) (Num@10 #3))",
+		"(f) x":          "(App@0 (Name@1 f) (Name@4 x))",
+		"(1) < 2":        "(Less@0 (Num@1 #1) (Num@6 #2))",
+		"((1)) = 2":      "(Same@0 (Num@2 #1) (Num@8 #2))",
 		"(1); 2":         "(Seq@0 (Num@1 #1) (Num@5 #2))",
 		"(1; 2)":         "(Seq@1 (Num@1 #1) (Num@4 #2))",
 		"((1); 2)":       "(Seq@1 (Num@2 #1) (Num@6 #2))",
@@ -217,7 +217,16 @@ func TestPlacesOfParentheses(t *testing.T) {
 		"((1, 2))":       "(Pair@1 (Num@2 #1) (Num@5 #2))",
 		"(())":           "(Unit@1)",
 		"print (1)":      "(Tell@0 (Num@7 #1))",
-		"(fun x -> x) 1": "(App@1 (Fun@1 x (Name@10 x)) (Num@13 #1))",
+		"(fun x -> x) 1": "(App@0 (Fun@1 x (Name@10 x)) (Num@13 #1))",
+		"(f) x (y)":      "(App@0 (App@0 (Name@1 f) (Name@4 x)) (Name@7 y))",
+		"(f 1) 2":        "(App@0 (App@1 (Name@1 f) (Num@3 #1)) (Num@6 #2))",
+		"(1) - (2) - 3":  "(Op@0 - (Op@0 - (Num@1 #1) (Num@7 #2)) (Num@12 #3))",
+		"1 + (2) * 3":    "(Op@0 + (Num@0 #1) (Op@4 * (Num@5 #2) (Num@10 #3)))",
+		"1 - (f) x":      "(Op@0 - (Num@0 #1) (App@4 (Name@5 f) (Name@8 x)))",
+		"1 < (2) + 3":    "(Less@0 (Num@0 #1) (Op@4 + (Num@5 #2) (Num@10 #3)))",
+		"1 = (f) x":      "(Same@0 (Num@0 #1) (App@4 (Name@5 f) (Name@8 x)))",
+		"((1) + 2) < 3":  "(Less@0 (Op@1 + (Num@2 #1) (Num@7 #2)) (Num@12 #3))",
+		"x := (1) + 2":   "(Store@0 x (Op@5 + (Num@6 #1) (Num@11 #2)))",
 		"(x := 1)":       "(Store@1 x (Num@6 #1))",
 	} {
 		wantDomain(t, text, want)
